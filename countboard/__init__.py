@@ -1,0 +1,1 @@
+"""Counters on the lines of a reckoning board."""
