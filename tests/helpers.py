@@ -58,6 +58,26 @@ def all_boards(ratios, most):
     return [list(board) for board in itertools.product(range(most + 1), repeat=len(ratios) + 1)]
 
 
+def boards_by_worth(ratios, most):
+    """The boards of a frame with at most so many counters on each line, as lists of those of one worth."""
+    told = {}
+    for board in all_boards(ratios, most):
+        told.setdefault(worth_by_hand(ratios, board), []).append(board)
+    return list(told.values())
+
+
+def board_pairs_of_unlike_worths(ratios):
+    """Pairs of boards whose worths differ by one or by very much."""
+    lines = len(ratios) + 1
+    told = []
+    for counters in (0, 3, GREAT):
+        for more in (1, GREAT):
+            one = [counters] * lines
+            other = [counters + more] + [counters] * (lines - 1)
+            told += [(one, other), (other, one)]
+    return told
+
+
 class BoardCase(unittest.TestCase):
     def assert_refused(self, refusal, called, *handed):
         """The call is refused with this very class, and not one under it."""
